@@ -1,0 +1,1 @@
+"""What counts at doors and roads give away."""

@@ -1,0 +1,186 @@
+"""The examples of the document, as they stand there, and those of the README."""
+
+import doctest
+import unittest
+from pathlib import Path
+
+from suretrips.errors import TripError
+
+EXAMPLES = (
+    ("A5", r'''
+>>> from suretrips.nets import leads, net_error, roads_from, roads_to, trip_at, trip_count, trip_error
+>>> net = (5, ((0, 1), (0, 2), (1, 2), (1, 4), (2, 3), (2, 4), (3, 4)))
+>>> [net_error(value) for value in (net, (2, ((0, 1), (0, 1))), (3, ((1, 2),)), list(net), (5, ()), (5, [(0, 1)]), (5, ((0, 1),) * 61))]
+[None, None, None, 'form', 'form', 'form', 'form']
+>>> [net_error(value) for value in ((1, ((0, 1),)), (25, ((0, 1),)), (True, ((0, 1),)), (3, ((0, 1), (2, 2))), (3, ((1, 0),)), (3, ((0, 3),)), (3, ((0, 1, 1),)), (3, ((0, True),)))]
+['many', 'many', 'many', ('road', 1), ('road', 0), ('road', 0), ('road', 0), ('road', 0)]
+'''),
+    ("A6", r'''
+>>> roads_from(net, 0), roads_from(net, 2), roads_from(net, 4), roads_to(net, 2), roads_to(net, 4), roads_to(net, 0)
+((0, 1), (4, 5), (), (1, 2), (3, 5, 6), ())
+>>> leads(net, 0, 5), leads(net, 1, 3), leads(net, 0, 0), leads(net, 2, 4), leads(net, 3, 6)
+(True, False, False, True, False)
+'''),
+    ("A7", r'''
+>>> trip_count(net), [trip_at(net, number) for number in range(5)]
+(5, [(0, 2, 4, 6), (0, 2, 5), (0, 3), (1, 4, 6), (1, 5)])
+>>> double = (4, ((0, 1), (0, 1), (1, 3), (1, 3), (2, 3)))
+>>> trip_count(double), trip_at(double, 1), trip_at(double, 2), trip_count((3, ((1, 2),)))
+(4, (0, 3), (1, 2), 0)
+>>> [trip_error(net, value) for value in ((0, 3), (1, 5), (3,), (0, 5), (0, 2), (0, 7), (0, 7, 3), (), [0, 3], (0, True), (0, 2, 4, 6, 6))]
+[None, None, ('joint', 0), ('joint', 1), 'out', ('road', 1), ('road', 1), 'form', 'form', ('road', 1), ('joint', 4)]
+>>> trip_at(net, 5)
+raises Unfit()
+>>> trip_at(net, True)
+raises Unfit()
+'''),
+    ("A8", r'''
+>>> from suretrips.nettexts import net_text, read_net
+>>> net_text(net), read_net("4: 0>1 0>1 1>3 1>3 2>3") == double, read_net(net_text(net)) == net, read_net("12: 0>11")
+('5: 0>1 0>2 1>2 1>4 2>3 2>4 3>4', True, True, (12, ((0, 11),)))
+>>> read_net("5:0>1")
+raises BadText(2)
+>>> read_net("5: 0>1 ")
+raises BadText(7)
+>>> read_net("05: 0>1")
+raises BadText(1)
+>>> read_net("5: 0>123")
+raises BadText(7)
+>>> read_net(None)
+raises BadText(0)
+>>> read_net("5: 0>1 2>1")
+raises BadNet(('road', 1))
+>>> read_net("25: 0>1")
+raises BadNet('many')
+'''),
+    ("B2", r'''
+>>> from suretrips.tallies import less, passing, put_together, tally_error, total
+>>> square, line = (4, ((0, 1), (0, 2), (1, 2), (1, 3), (2, 3))), (3, ((0, 1), (1, 2)))
+>>> some = (12, 7, 5, 7, 12)
+>>> [tally_error(square, value) for value in (some, (0, 0, 0, 0, 0), (12, 7, 5, 7), list(some), (12, 7, -5, 7, 12), (12, 7, 5, True, 12), (12, 7, 5, 8, 12), (12, 7, 4, 8, 12))]
+[None, None, 'form', 'form', ('road', 2), ('road', 3), ('place', 1), ('place', 2)]
+>>> total(square, some), passing(square, some, 1), passing(square, some, 2), passing(square, some, 3), total(square, (0, 0, 0, 0, 0)), total(line, (10 ** 30, 10 ** 30)) == 10 ** 30
+(19, 12, 12, 19, 0, True)
+'''),
+    ("B3", r'''
+>>> put_together(some, (1, 0, 1, 0, 1)), less(some, (1, 0, 1, 0, 1)), less(some, some)
+((13, 7, 6, 7, 13), (11, 7, 4, 7, 11), (0, 0, 0, 0, 0))
+>>> less((1, 0, 0, 1, 0), (1, 0, 1, 0, 1))
+raises Unfit()
+>>> put_together((10 ** 30, 10 ** 30), (1, 1))
+raises TooMany(1000000000000000000000000000000)
+'''),
+    ("B4", r'''
+>>> from suretrips.tallytexts import read_tally, tally_text
+>>> tally_text(some), tally_text((0, 0)), read_tally(square, "12 7 5 7 12") == some
+('12 7 5 7 12', '0 0', True)
+>>> read_tally(line, "12 012")
+raises BadText(4)
+>>> read_tally(line, "12  12")
+raises BadText(3)
+>>> read_tally(line, "12 ")
+raises BadText(3)
+>>> read_tally(line, "1" * 32 + " 1")
+raises BadText(31)
+>>> read_tally(line, "12 12 12")
+raises BadTally('form')
+>>> read_tally(line, "12 13")
+raises BadTally(('place', 1))
+'''),
+    ("B5", r'''
+>>> from suretrips.fillings import bar_error, filled, holes_error, is_within, narrowed, no_filling
+>>> holes = ((12, 12), (0, None), (5, 5), (0, None), (10, 20))
+>>> [holes_error(square, value) for value in (holes, holes[:4], list(holes), holes[:4] + ((3, 2),), ((0, True),) + holes[1:], holes[:2] + ((None, None),) + holes[3:], holes[:4] + ((10, 10 ** 28 + 1),))]
+[None, 'form', 'form', ('road', 4), ('road', 0), ('road', 2), ('road', 4)]
+>>> is_within(holes, some), is_within(holes, (12, 4, 5, 7, 9)), is_within(holes, (12, 10 ** 20, 5, 7, 10 ** 20 + 5))
+(True, False, False)
+'''),
+    ("B6", r'''
+>>> is_within(holes, filled(square, holes)), filled(line, ((3, 7), (7, None))), no_filling(square, holes)
+(True, (7, 7), None)
+>>> tight, odd = ((4, 4), (1, 1), (0, 0), (0, 2), (0, None)), ((3, 3), (0, 0), (5, 5), (0, None), (0, None))
+>>> no_filling(square, tight), no_filling(square, odd)
+((1,), (0, 2, 3))
+>>> [bar_error(square, tight, value) for value in ((1,), (), (2,), (3,), (1, 0), [1], (1, 4))]
+[None, 'little', ('open', 4), 'out', 'form', 'form', 'form']
+>>> bar_error(square, odd, (0, 2, 3)), bar_error(square, odd, (1,)), bar_error(square, odd, (0, 1, 2, 3))
+(None, ('open', 3), 'little')
+>>> filled(square, tight)
+raises Unfit()
+'''),
+    ("B7", r'''
+>>> narrowed(square, holes)
+((12, 12), (5, 15), (5, 5), (7, 7), (10, 20))
+>>> narrowed(square, ((0, 4), (0, 2), (0, 3), (0, None), (5, 9))), narrowed(square, ((0, None),) * 5)
+(((3, 4), (2, 2), (3, 3), (0, 1), (5, 5)), ((0, None), (0, None), (0, None), (0, None), (0, None)))
+>>> narrowed(square, ((2, 9), (1, 1), (4, None), (0, 0), (0, 6))), narrowed((2, ((0, 1), (0, 1))), ((1, None), (2, 3)))
+(((4, 5), (1, 1), (4, 5), (0, 0), (5, 6)), ((1, None), (2, 3)))
+>>> narrowed(square, tight)
+raises Unfit()
+'''),
+    ("C2", r'''
+>>> from suretrips.explaining import all_explained, explained, explanation_error, settled, tally_of
+>>> net, tally = (5, ((0, 1), (0, 1), (1, 2), (1, 3), (2, 3), (2, 4), (3, 4))), (5, 3, 6, 2, 4, 2, 6)
+>>> told = (((0, 2, 4, 6), 4), ((0, 3, 6), 1), ((1, 2, 5), 2), ((1, 3, 6), 1))
+>>> explanation_error(net, tally, told), tally_of(net, told) == tally, tally_of(net, ()), explanation_error(net, (0,) * 7, ())
+(None, True, (0, 0, 0, 0, 0, 0, 0), None)
+>>> [explanation_error(net, tally, value) for value in (list(told), told + ((),), (((0, 2), 5),), (((0, 2, 5), True),), told[::-1], told[:2] * 2, told[1:], told[:3] + (((1, 3, 6), 2),), ())]
+['form', 'form', ('trip', 0), ('times', 0), ('order', 1), ('order', 2), ('road', 0), ('road', 1), ('road', 0)]
+'''),
+    ("C3", r'''
+>>> explanation_error(net, tally, explained(net, tally)), len(all_explained(net, tally)), told in all_explained(net, tally), settled(net, tally)
+(None, 8, True, False)
+>>> all_explained(net, (1, 1, 1, 1, 1, 0, 2))
+((((0, 2, 4, 6), 1), ((1, 3, 6), 1)), (((0, 3, 6), 1), ((1, 2, 4, 6), 1)))
+>>> settled(net, (9, 0, 6, 3, 4, 2, 7)), explained(net, (9, 0, 6, 3, 4, 2, 7)), settled(net, (0,) * 7), settled(net, (4, 7, 11, 0, 0, 11, 0))
+(True, (((0, 2, 4, 6), 4), ((0, 2, 5), 2), ((0, 3, 6), 3)), True, True)
+>>> all_explained(net, (100, 100, 120, 80, 40, 80, 120))
+raises TooMany(1000)
+'''),
+)
+
+
+def examples_of(text):
+    """The pairs of a line of code and of what it has to tell, None if nothing."""
+    found = []
+    for line in text.strip().split("\n"):
+        if line.startswith(">>> "):
+            found.append((line[4:], None))
+        else:
+            found[-1] = (found[-1][0], line)
+    return found
+
+
+def told_by(code, names):
+    """What the line of code tells, written as the document writes it."""
+    try:
+        return repr(eval(code, names))
+    except TripError as error:
+        fields = ", ".join([repr(value) for value in vars(error).values()])
+        return f"raises {type(error).__name__}({fields})"
+
+
+class Examples(unittest.TestCase):
+
+    def test_examples_of_the_document(self):
+        names = {}
+        for point, text in EXAMPLES:
+            for code, wanted in examples_of(text):
+                with self.subTest(point=point, code=code):
+                    if wanted is None:
+                        exec(code, names)
+                    else:
+                        self.assertEqual(told_by(code, names), wanted)
+
+    def test_the_examples_are_all_run(self):
+        self.assertEqual(sum([len(examples_of(text)) for _, text in EXAMPLES]), 60)
+
+    def test_examples_of_the_readme(self):
+        readme = Path(__file__).resolve().parent.parent / "README.md"
+        told = doctest.testfile(str(readme), module_relative=False)
+        self.assertEqual(told.failed, 0)
+        self.assertGreater(told.attempted, 9)
+
+
+if __name__ == "__main__":
+    unittest.main()

@@ -1,0 +1,93 @@
+"""The names, arguments and bounds of the interface, and the errors."""
+
+import copy
+import inspect
+import pickle
+import unittest
+
+from suretrips import (bounds, errors, explaining, fillings, nets, nettexts, tallies, tallytexts)
+from tests.common import KINDS
+
+BOUNDS = {
+    "MAX_PLACES": 24, "MAX_ROADS": 60, "MAX_COUNT": 10 ** 30, "MAX_HOLE": 10 ** 28, "MAX_TRIPS": 200,
+    "MAX_ALL": 1000, "MAX_SOME": 10, "MAX_NOTS": 8, "MAX_ASKS": 40, "MAX_ROOMS": 6, "MAX_BEATS": 6, "MAX_EDITS": 40,
+}
+
+ERRORS = {
+    "Unfit": (), "BadText": ("place",), "BadNet": ("error",), "BadTally": ("error",), "TooMany": ("limit",),
+    "NoName": ("given",), "Taken": ("given",), "Ring": ("names",), "NothingToUndo": (), "TooManyEdits": (),
+    "BadLog": ("place",),
+}
+
+FUNCTIONS = {
+    nets: {
+        "net_error": ["value"], "roads_from": ["net", "place"], "roads_to": ["net", "place"],
+        "leads": ["net", "one", "other"], "trip_count": ["net"], "trip_at": ["net", "number"],
+        "trip_error": ["net", "value"],
+    },
+    nettexts: {"net_text": ["net"], "read_net": ["value"]},
+    tallies: {
+        "tally_error": ["net", "value"], "total": ["net", "tally"], "passing": ["net", "tally", "place"],
+        "put_together": ["one", "other"], "less": ["one", "other"],
+    },
+    tallytexts: {"tally_text": ["tally"], "read_tally": ["net", "value"]},
+    fillings: {
+        "holes_error": ["net", "value"], "is_within": ["holes", "tally"], "filled": ["net", "holes"],
+        "no_filling": ["net", "holes"], "bar_error": ["net", "holes", "value"], "narrowed": ["net", "holes"],
+    },
+    explaining: {
+        "explanation_error": ["net", "tally", "value"], "tally_of": ["net", "told"], "explained": ["net", "tally"],
+        "all_explained": ["net", "tally"], "settled": ["net", "tally"],
+    },
+}
+
+
+class Interface(unittest.TestCase):
+
+    def test_bounds(self):
+        for name, value in BOUNDS.items():
+            self.assertIs(type(getattr(bounds, name)), int)
+            self.assertEqual(getattr(bounds, name), value)
+
+    def test_functions_stand_in_their_files_with_their_arguments(self):
+        for module, functions in FUNCTIONS.items():
+            for name, arguments in functions.items():
+                with self.subTest(name=name):
+                    function = getattr(module, name)
+                    self.assertEqual(function.__module__, module.__name__)
+                    self.assertEqual(list(inspect.signature(function).parameters), arguments)
+
+
+class Errors(unittest.TestCase):
+
+    def test_each_stands_directly_under_trip_error(self):
+        self.assertEqual(errors.TripError.__bases__, (ValueError,))
+        for name in ERRORS:
+            self.assertEqual(getattr(errors, name).__bases__, (errors.TripError,))
+            self.assertEqual(getattr(errors, name).__module__, "suretrips.errors")
+
+    def test_made_by_place_and_by_name_they_keep_any_value(self):
+        for name, fields in ERRORS.items():
+            for value in KINDS if fields else KINDS[:1]:
+                made = getattr(errors, name)
+                for error in (made(*[value] * len(fields)), made(**{field: value for field in fields})):
+                    self.assertEqual(list(vars(error)), list(fields))
+                    for field in fields:
+                        self.assertIs(getattr(error, field), value)
+                    self.assertIsInstance(str(error), str)
+
+    def test_they_are_raised_and_caught(self):
+        for name, fields in ERRORS.items():
+            with self.assertRaises(getattr(errors, name)):
+                raise getattr(errors, name)(*[3] * len(fields))
+
+    def test_they_can_be_copied(self):
+        for name, fields in ERRORS.items():
+            error = getattr(errors, name)(**{field: (1, "a") for field in fields})
+            for other in (copy.copy(error), pickle.loads(pickle.dumps(error))):
+                self.assertIs(type(other), type(error))
+                self.assertEqual(vars(other), vars(error))
+
+
+if __name__ == "__main__":
+    unittest.main()
