@@ -47,8 +47,7 @@ def endless_room(holes, counts):
 def rooms_around(net, holes, counts, many_trips):
     """The rooms that holes leave around counts; from out to in a road without bound leads many_trips back."""
     many, roads = net
-    # Two places more: where what lacks comes from, and where what is too much goes.
-    rooms = Rooms(many + 2)
+    rooms = Rooms(many)
     endless = endless_room(holes, counts)
     for (foot, head), (low, high), count in zip(roads, holes, counts):
         rooms.link(foot, head, endless if high is None else high - count, count - low)
@@ -68,17 +67,9 @@ def surpluses(net, counts):
 
 def evened(net, holes):
     """The rooms after the lows were evened at all places as far as can be, and whether all are even."""
-    many, _ = net
     lows = [low for low, _ in holes]
     rooms = rooms_around(net, holes, lows, 0)
-    wanted = 0
-    for place, much in enumerate(surpluses(net, lows)):
-        if much > 0:
-            rooms.link(many, place, much, 0)
-            wanted += much
-        else:
-            rooms.link(place, many + 1, -much, 0)
-    return rooms, rooms.push(many, many + 1) == wanted
+    return rooms, rooms.even(surpluses(net, lows))
 
 
 def filled(net, holes):
@@ -92,11 +83,8 @@ def filled(net, holes):
 
 def no_filling(net, holes):
     """A bar of holes; None if there is a tally within them."""
-    many, _ = net
     rooms, is_even = evened(net, holes)
-    if is_even:
-        return None
-    return tuple(sorted([place for place in rooms.reached(many) if place < many]))
+    return None if is_even else rooms.side()
 
 
 def bar_error(net, holes, value):

@@ -20,6 +20,14 @@ def is_row(value, many):
     return isinstance(value, tuple) and len(value) == many
 
 
+def is_answer(value):
+    """Whether value is a triple of an integer or None, a tuple, and a tuple."""
+    if not is_row(value, 3):
+        return False
+    first, second, third = value
+    return (first is None or is_integer(first)) and isinstance(second, tuple) and isinstance(third, tuple)
+
+
 def is_ascending(value, limit):
     """Whether value is an ascending tuple of integers from 0 to limit less 1."""
     if not isinstance(value, tuple):
@@ -52,10 +60,15 @@ def sign_end(text, start, sign):
 
 
 class Rooms:
-    """Arcs between places, and what can still be sent along each; the arc k ^ 1 is the arc k the other way."""
+    """Arcs between places, and what can still be sent along each; the arc k ^ 1 is the arc k the other way.
+
+    Beside so many places there are two more, source and sink, for what comes from without and goes there.
+    """
 
     def __init__(self, many):
-        self.arcs_from = [[] for _ in range(many)]
+        self.source = many
+        self.sink = many + 1
+        self.arcs_from = [[] for _ in range(many + 2)]
         self.heads = []
         self.left = []
 
@@ -104,3 +117,18 @@ class Rooms:
             sent += part
             arcs = self.way(source, sink)
         return sent
+
+    def even(self, surpluses):
+        """Send what is too much at places to where it lacks, as far as can be, and return whether all is even."""
+        wanted = 0
+        for place, much in enumerate(surpluses):
+            if much > 0:
+                self.link(self.source, place, much, 0)
+                wanted += much
+            else:
+                self.link(place, self.sink, -much, 0)
+        return self.push(self.source, self.sink) == wanted
+
+    def side(self):
+        """The places that are reached from source, ascending."""
+        return tuple(sorted([place for place in self.reached(self.source) if place < self.source]))

@@ -137,6 +137,147 @@ raises Unfit()
 >>> all_explained(net, (100, 100, 120, 80, 40, 80, 120))
 raises TooMany(1000)
 '''),
+    ("C4", r'''
+>>> from suretrips.exchanging import exchanged, exchanges
+>>> exchanged(net, told, (((0, 2, 4, 6), (1, 2, 5), 1, 2),))
+(((0, 2, 4, 6), 2), ((0, 2, 5), 2), ((0, 3, 6), 1), ((1, 2, 4, 6), 2), ((1, 3, 6), 1))
+>>> exchanged(net, told, (((0, 2, 4, 6), (1, 2, 5), 2, 2),)) == exchanged(net, told, (((0, 2, 4, 6), (1, 2, 5), 1, 2),)), exchanged(net, told, ()) == told
+(True, True)
+>>> exchanged(net, told, (((0, 2, 4, 6), (0, 3, 6), 3, 1),)) == told
+True
+>>> exchanged(net, told, (((0, 2, 4, 6), (1, 2, 5), 1, 3),))
+raises Unfit()
+>>> exchanged(net, told, (((0, 2, 4, 6), (1, 2, 5), 3, 1),))
+raises Unfit()
+'''),
+    ("C5", r'''
+>>> goal = explained(net, tally)
+>>> exchanged(net, told, exchanges(net, told, goal)) == goal, exchanges(net, told, told), exchanged(net, goal, exchanges(net, goal, told)) == told
+(True, (), True)
+>>> exchanges(net, told, (((0, 3, 6), 1),))
+raises Unfit()
+'''),
+    ("D2", r'''
+>>> from suretrips.stretches import excess, is_sure, least_along, least_through, most_along, most_through, stretch_error, sure_stretches
+>>> river, seen = (4, ((0, 1), (0, 1), (1, 2), (1, 3), (2, 3))), (5, 3, 6, 2, 6)
+>>> [stretch_error(river, value) for value in ((0, 2, 4), (3,), (), [0], (0, 5), (0, True), (0, 4), (2, 4, 0))]
+[None, None, 'form', 'form', ('road', 1), ('road', 1), ('joint', 1), ('joint', 2)]
+>>> [excess(river, seen, stretch) for stretch in ((0, 2, 4), (1, 2, 4), (0, 3), (1, 3), (2, 4), (4,))]
+[3, 1, -1, -3, 6, 6]
+'''),
+    ("D3", r'''
+>>> [(least_along(river, seen, stretch), most_along(river, seen, stretch)) for stretch in ((0, 2, 4), (1, 2, 4), (0, 3), (1, 3), (4,))]
+[(3, 5), (1, 3), (0, 2), (0, 2), (6, 6)]
+>>> is_sure(river, seen, (1, 2)), is_sure(river, seen, (1, 3)), sure_stretches(river, seen)
+(True, False, ((0, 2, 4), (1, 2, 4), (3,)))
+>>> sure_stretches(river, (5, 0, 3, 2, 3)), sure_stretches(river, (0, 0, 0, 0, 0))
+(((0, 2, 4), (0, 3)), ())
+>>> sure_stretches(river, (4, 4, 4, 4, 4))
+((0,), (1,), (2, 4), (3,))
+'''),
+    ("D4", r'''
+>>> shut, wide = ((5, 5), (0, 3), (0, None), (2, 2), (0, None)), ((5, 5), (0, 3), (0, None), (0, 4), (0, None))
+>>> [(least_through(river, holes, (0, 2, 4)), most_through(river, holes, (0, 2, 4))) for holes in (shut, wide)]
+[(3, 5), (1, 5)]
+>>> endless = ((0, None), (0, 0), (0, None), (0, 2), (0, None))
+>>> least_through(river, endless, (0, 2, 4)), most_through(river, endless, (0, 2, 4)), most_through(river, endless, (0, 3))
+(0, None, 2)
+>>> least_through(river, ((1, 1), (0, 0), (0, 0), (0, 0), (0, None)), (0,))
+raises Unfit()
+'''),
+    ("E2", r'''
+>>> from suretrips.flows import flow_error, greatest_flow
+>>> town, counts = (4, ((0, 1), (0, 2), (1, 2), (1, 3), (2, 3))), (5, 4, 2, 3, 6)
+>>> [greatest_flow(town, counts, feet, heads, ())[0] for feet, heads in (((0,), (3,)), ((0,), (2,)), ((1,), (3,)), ((0,), (1, 2)), ((2,), (0,)), ((1, 2), (3,)))]
+[9, 6, 5, 9, 0, 9]
+>>> [greatest_flow(town, counts, (0,), (), ends)[0] for ends in ((2,), (2, 3), (0, 4), (1, 2, 3), ())]
+[2, 5, 9, 9, 0]
+>>> greatest_flow(town, (None, 0, None, 0, 7), (0,), (2,), ()), greatest_flow(town, (None, 0, None, 0, 7), (0,), (), (2, 4))
+((None, (0, 2), ()), (None, (0, 2), ()))
+>>> greatest_flow(town, (None, 0, None, 0, 7), (0,), (3,), ())[0], greatest_flow(town, (0, 10 ** 30, 0, 0, 10 ** 30 - 1), (0,), (3,), ())[0]
+(7, 999999999999999999999999999999)
+>>> greatest_flow(town, (1, 2, 0, 0, 1), (0,), (3,), ())
+(1, (0, 1, 0, 0, 1), (0, 1, 2))
+'''),
+    ("E3", r'''
+>>> [flow_error(town, counts, (0,), (2,), (), value) for value in ((6, (2, 4, 2, 0, 0), (0, 1, 3)), (5, (1, 4, 1, 0, 0), (0, 1, 3)), (6, (2, 4, 2, 0, 0), (0, 1)), (6, (2, 4, 2, 0, 0), (1, 3)), (6, [2, 4, 2, 0, 0], (0, 1, 3)))]
+[None, 'value', 'value', 'cut', 'form']
+>>> [flow_error(town, counts, (0,), (2,), (), (6, flow, (0, 1, 3))) for flow in ((2, 5, 2, 0, 0), (2, 4, 2, 0), (2, 4, 2, 0, 0, 0), (3, 4, 2, 0, 0), (2, 4, True, 0, 0), (5, 4, 2, 3, 0))]
+[('road', 1), ('road', 4), ('road', 5), ('place', 1), ('road', 2), ('place', 3)]
+>>> [flow_error(town, (None, 0, None, 0, 7), (0,), (2,), (), value) for value in ((None, (0, 2), ()), (None, (2,), ()), (None, (0, 2), (0,)), (0, (0, 0, 0, 0, 0), (0,)), None)]
+[None, 'way', 'cut', 'value', 'form']
+'''),
+    ("E4", r'''
+>>> from suretrips.costs import least_cost, least_cost_error
+>>> doors = (3, ((0, 1), (0, 1), (1, 2), (1, 2)))
+>>> least_cost(doors, ((0, 5), (2, 2), (0, None), (1, 1)), (1, 0, 0, -1)), least_cost(doors, ((0, 5), (2, 2), (0, None), (1, 1)), (-1, 0, 0, 1))
+((-1, (0, 2, 1, 1), (0, 0, 0)), (-4, (5, 2, 6, 1), (0, 0, 0)))
+>>> least_cost(doors, ((0, None), (2, 2), (0, None), (1, 1)), (-1, 0, 0, 0))
+(None, (0, 2), ())
+>>> least_cost(doors, ((0, 1), (0, 1), (2, 4), (1, 1)), (1, 0, 0, -1))
+raises Unfit()
+>>> [least_cost_error(doors, ((0, 5), (2, 2), (0, None), (1, 1)), (1, 0, 0, -1), value) for value in ((-1, (0, 2, 1, 1), (0, 0, 0)), (0, (1, 2, 2, 1), (0, 0, 0)), (-1, (0, 2, 1, 1), (0, 1, 0)), (-1, (0, 2, 1, 1), (0, 0, 1)), (-2, (0, 2, 1, 1), (0, 0, 0)), (-1, (0, 2, 1, 0), (0, 0, 0)))]
+[None, ('road', 0), ('road', 2), 'prices', 'worth', 'tally']
+'''),
+    ("F2", r'''
+>>> from suretrips.questions import question_error, taken, takes
+>>> net, tally = (5, ((0, 1), (0, 1), (1, 2), (1, 3), (2, 3), (2, 4), (3, 4))), (5, 3, 6, 2, 4, 2, 6)
+>>> told = (((0, 2, 4, 6), 4), ((0, 3, 6), 1), ((1, 2, 5), 2), ((1, 3, 6), 1))
+>>> [question_error(net, value) for value in (("along", (2, 4)), ("touch", (1, 5)), ("both", 0, 6), ("both", 3, 3), ("along", (0, 2, 4, 6)))]
+[None, None, None, None, None]
+>>> [question_error(net, value) for value in (["touch", (1,)], ("near", (1,)), ("both", 1), ("touch", (1,), 2), None, ("touch", ()), ("touch", (5, 1)), ("touch", (1, 7)), ("touch", [1]), ("both", 0, 7), ("both", True, 2))]
+['form', 'form', 'form', 'form', 'form', 'marks', 'marks', 'marks', 'marks', 'road', 'road']
+>>> takes(("along", (2, 4)), (0, 2, 4, 6)), takes(("along", (2, 5)), (0, 2, 4, 6)), takes(("touch", (1, 5)), (0, 2, 5)), takes(("both", 6, 0), (0, 3, 6)), takes(("both", 3, 3), (0, 2, 5))
+(True, False, True, True, False)
+>>> [taken(question, told) for question in (("along", (2, 4)), ("touch", (1, 5)), ("both", 0, 6), ("both", 1, 6))]
+[4, 3, 5, 1]
+'''),
+    ("F3", r'''
+>>> from suretrips.answering import door_table, least, most
+>>> [(least(net, tally, question), most(net, tally, question)) for question in (("along", (0, 2)), ("along", (2, 4)), ("along", (0, 2, 4)), ("along", (0, 3, 6)))]
+[(3, 5), (4, 4), (1, 4), (0, 2)]
+>>> [(least(net, tally, question), most(net, tally, question)) for question in (("touch", (1, 5)), ("touch", (3, 4)), ("touch", (0, 1)), ("touch", (2,)))]
+[(3, 5), (6, 6), (8, 8), (6, 6)]
+>>> [(least(net, tally, question), most(net, tally, question)) for question in (("both", 0, 6), ("both", 1, 6), ("both", 1, 5), ("both", 5, 6), ("both", 4, 4))]
+[(3, 5), (1, 3), (0, 2), (0, 0), (4, 4)]
+>>> great = tuple([count * 10 ** 29 for count in tally])
+>>> least(net, great, ("both", 0, 6)) == 3 * 10 ** 29, most(net, great, ("touch", (1, 5))) == 5 * 10 ** 29
+(True, True)
+'''),
+    ("F4", r'''
+>>> door_table(net, tally)
+(((0, 2), (3, 5)), ((0, 2), (1, 3)))
+'''),
+    ("G3", r'''
+>>> from suretrips.papers import paper, paper_error, shown
+>>> doors, counts = (3, ((0, 1), (0, 1), (1, 2), (1, 2))), (3, 2, 4, 1)
+>>> few, many = (((0, 2), 2), ((0, 3), 1), ((1, 2), 2)), (((0, 2), 3), ((1, 2), 1), ((1, 3), 1))
+>>> paper(doors, counts, ("touch", (0, 3))) == ((3, few, ("places", (0,))), (4, many, ("places", (0, 1, 2))))
+True
+>>> [shown(doors, counts, ("touch", (0, 3)), places) for places in ((0,), (0, 1), (0, 1, 2), (0, 2), (1,), ())]
+[(3, 5), (1, 8), (None, 4), (None, 5), (None, None), (None, None)]
+>>> [shown(doors, counts, ("both", 0, 2), places) for places in ((0,), (0, 2), (0, 1), (1,))], shown(doors, counts, ("both", 2, 0), (0,)), shown(doors, counts, ("both", 0, 1), (0,))
+([(2, None), (2, None), (None, None), (None, None)], (2, None), (None, None))
+>>> paper(doors, counts, ("along", (0, 2))) in [((2, few, None), (3, many, ("road", 0)))]
+True
+>>> low, high = (2, few, ("places", (0,))), (3, many, ("road", 0))
+>>> [paper_error(doors, counts, ("both", 0, 2), value) for value in ((low, high), (low, low), (high, high), (low, (3, many, ("road", 2))), (low, (3, many, None)), ((2, few, None), high), (low,), [low, high])]
+[None, ('greatest', 'bound'), ('least', 'bound'), ('greatest', 'bound'), ('greatest', 'bound'), ('least', 'bound'), 'form', 'form']
+>>> [paper_error(doors, counts, ("both", 0, 2), (low, own)) for own in ((2, many, ("road", 0)), (3, few, ("road", 0)), (True, many, ("road", 0)), (3, many[:2], ("road", 0)), (3, None, ("road", 0)))]
+[('greatest', 'number'), ('greatest', 'number'), ('greatest', 'number'), ('greatest', 'explanation'), ('greatest', 'explanation')]
+>>> paper(doors, counts, ("both", 0, 1))[0][0], paper(doors, counts, ("both", 0, 1))[1][2], paper(doors, counts, ("both", 2, 2))[0][0], paper(doors, counts, ("both", 2, 2))[1][2]
+(0, None, 4, ('road', 2))
+'''),
+    ("G4", r'''
+>>> from suretrips.anynumber import with_number
+>>> with_number(doors, counts, ("touch", (0, 3)), 4) == many, with_number(doors, counts, ("along", (0, 2)), 2) == few
+(True, True)
+>>> with_number(doors, counts, ("touch", (0, 3)), 5)
+raises Unfit()
+>>> far = tuple([10 ** 29 * count for count in counts])
+>>> with_number(doors, far, ("both", 0, 2), 25 * 10 ** 28 + 1)
+(((0, 2), 250000000000000000000000000001), ((0, 3), 49999999999999999999999999999), ((1, 2), 149999999999999999999999999999), ((1, 3), 50000000000000000000000000001))
+'''),
 )
 
 
@@ -173,7 +314,7 @@ class Examples(unittest.TestCase):
                         self.assertEqual(told_by(code, names), wanted)
 
     def test_the_examples_are_all_run(self):
-        self.assertEqual(sum([len(examples_of(text)) for _, text in EXAMPLES]), 60)
+        self.assertEqual(sum([len(examples_of(text)) for _, text in EXAMPLES]), 128)
 
     def test_examples_of_the_readme(self):
         readme = Path(__file__).resolve().parent.parent / "README.md"

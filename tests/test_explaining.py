@@ -1,55 +1,19 @@
 """Explanations: [C1] to [C3], and of [C6] what it says of them."""
 
-import random
 import unittest
 from itertools import product
 from math import comb
 
 from suretrips.explaining import all_explained, explained, explanation_error, settled, tally_of
-from suretrips.nets import roads_to, trip_at, trip_count
+from suretrips.nets import roads_to
 from suretrips.tallies import less, put_together
-from tests.common import (KINDS, NO_INTEGERS, all_explanations, all_trips, answer, chain, check_calls, raised,
-                          random_net, small_nets, tallies_within)
+from tests.common import (KINDS, NO_INTEGERS, TOP, all_explanations, all_trips, answer, chain, check_calls,
+                          great_tallies, raised, small_tallies, wide)
 
 NET, TALLY = (5, ((0, 1), (0, 1), (1, 2), (1, 3), (2, 3), (2, 4), (3, 4))), (5, 3, 6, 2, 4, 2, 6)
 TOLD = (((0, 2, 4, 6), 4), ((0, 3, 6), 1), ((1, 2, 5), 2), ((1, 3, 6), 1))
 CROSS = (3, ((0, 1), (0, 1), (1, 2), (1, 2)))
-TOP = 10 ** 30
 TOO_MANY = raised("TooMany", limit=1000)
-
-
-def wide(rows, columns):
-    """Three places with so many roads to the middle one, and so many from there."""
-    return (3, ((0, 1),) * rows + ((1, 2),) * columns)
-
-
-def small_cases():
-    """Small nets and all their tallies of small counts."""
-    cases = []
-    for net in small_nets(3, 3) + small_nets(3, 4)[60::4] + small_nets(4, 4)[300::11]:
-        cases.extend([(net, tally) for tally in tallies_within(net, [(0, 2)] * len(net[1]))])
-    chance = random.Random(3)
-    for _ in range(150):
-        net = random_net(chance, 5, 7)
-        if 0 < trip_count(net) < 9:
-            found = [trip_at(net, chance.randrange(trip_count(net))) for _ in range(chance.randint(1, 4))]
-            cases.append((net, tally_of(net, [(trip, chance.randint(1, 2)) for trip in found])))
-    return cases
-
-
-def great_cases():
-    """Great nets with tallies of great counts."""
-    chance = random.Random(9)
-    nets = [chain(23, 2), wide(30, 30), wide(1, 59), wide(59, 1), (2, ((0, 1),) * 60), chain(3, 20), chain(12, 5)]
-    nets.append((24, tuple([(place, place + 1) for place in range(23)] + [(place, place + 3) for place in range(20)])))
-    cases = [(net, (0,) * len(net[1])) for net in nets]
-    for net in nets:
-        for pairs in (1, 2, 50, 200):
-            numbers = [chance.randrange(trip_count(net)) for _ in range(pairs)]
-            cases.append((net, tally_of(net, [(trip_at(net, at), chance.randint(1, TOP // 200)) for at in numbers])))
-    cases.append((nets[0], (TOP,) * 46))
-    cases.append((nets[1], (TOP,) * 60))
-    return cases
 
 
 def cross_somewhere(net, told):
@@ -67,7 +31,7 @@ def cross_somewhere(net, told):
 class ExplanationError(unittest.TestCase):
 
     def test_none_of_just_the_explanations(self):
-        for net, tally in small_cases()[::40]:
+        for net, tally in small_tallies()[::40]:
             trips = all_trips(net)
             right = all_explanations(net, tally)
             for told in right:
@@ -138,7 +102,7 @@ class TallyOf(unittest.TestCase):
 class Explained(unittest.TestCase):
 
     def test_beside_a_search(self):
-        for net, tally in small_cases():
+        for net, tally in small_tallies():
             right = all_explanations(net, tally)
             if len(right) <= 1000:
                 self.assertEqual(all_explained(net, tally), tuple(right), (net, tally))
@@ -147,14 +111,14 @@ class Explained(unittest.TestCase):
                 self.assertLessEqual(len(explained(net, tally)), len(net[1]))
 
     def test_great_tallies_are_explained(self):
-        for net, tally in great_cases():
+        for net, tally in great_tallies():
             told = explained(net, tally)
             self.assertIsNone(explanation_error(net, tally, told))
             self.assertLessEqual(len(told), len(net[1]))
             self.assertIs(settled(net, tally), not cross_somewhere(net, told))
 
     def test_settled_as_trips_of_any_explanation_tell(self):
-        for net, tally in small_cases():
+        for net, tally in small_tallies():
             for told in all_explanations(net, tally):
                 self.assertIs(settled(net, tally), not cross_somewhere(net, told), (net, tally, told))
 
@@ -229,15 +193,15 @@ class AllExplained(unittest.TestCase):
         self.assertEqual(answer(all_explained, wide(30, 30), (TOP,) * 60), TOO_MANY)
 
     def test_the_same_beside_other_calls(self):
-        first = [(answer(all_explained, net, tally), settled(net, tally)) for net, tally in great_cases()]
+        first = [(answer(all_explained, net, tally), settled(net, tally)) for net, tally in great_tallies()]
         explained(NET, TALLY)
-        self.assertEqual([(answer(all_explained, net, tally), settled(net, tally)) for net, tally in great_cases()], first)
+        self.assertEqual([(answer(all_explained, net, tally), settled(net, tally)) for net, tally in great_tallies()], first)
 
 
 class WhatHolds(unittest.TestCase):
 
     def test_what_fits_into_a_tally_is_part_of_some_explanation(self):
-        for net, tally in small_cases()[::9]:
+        for net, tally in small_tallies()[::9]:
             right = [dict(told) for told in all_explanations(net, tally)]
             trips = all_trips(net)[:4]
             for times in product(range(3), repeat=len(trips)):
@@ -249,7 +213,7 @@ class WhatHolds(unittest.TestCase):
                     self.assertEqual(put_together(tally_of(net, explained(net, rest)), tally_of(net, lot)), tally)
 
     def test_explanations_make_the_tally_at_each_place(self):
-        for net, tally in great_cases():
+        for net, tally in great_tallies():
             told = explained(net, tally)
             self.assertEqual(tally_of(net, told), tally)
             self.assertEqual(sum([times for _, times in told]), sum([tally[road] for road in roads_to(net, net[0] - 1)]))

@@ -2,12 +2,12 @@
 
 import random
 import unittest
-from itertools import combinations, product
+from itertools import combinations
 
 from suretrips.fillings import bar_error, filled, holes_error, is_within, narrowed, no_filling
 from suretrips.tallies import tally_error
-from tests.common import (KINDS, NO_INTEGERS, answer, chain, check_calls, raised, random_net, small_nets,
-                          tallies_within)
+from tests.common import (KINDS, NO_INTEGERS, answer, chain, check_calls, raised, random_net, search_within,
+                          small_holes)
 
 SQUARE = (4, ((0, 1), (0, 2), (1, 2), (1, 3), (2, 3)))
 LINE = (3, ((0, 1), (1, 2)))
@@ -16,18 +16,6 @@ TIGHT = ((4, 4), (1, 1), (0, 0), (0, 2), (0, None))
 ODD = ((3, 3), (0, 0), (5, 5), (0, None), (0, None))
 TOP = 10 ** 28
 UNFIT = raised("Unfit")
-
-
-def told_together(holes):
-    """All lows and all highs that are told, together."""
-    return sum([low + (high or 0) for low, high in holes])
-
-
-def search(net, holes):
-    """All tallies within holes up to counts that are great enough to tell what has no bound."""
-    # What is more than all that is told goes round on roads without bounds alone.
-    most = told_together(holes) + 1
-    return tallies_within(net, [(low, most if high is None else high) for low, high in holes])
 
 
 def narrowed_by(net, holes, found):
@@ -52,27 +40,6 @@ def is_bar(net, holes, places):
     highs = [holes[road][1] for road, (foot, head) in enumerate(roads) if foot in places and head not in places]
     lows = [holes[road][0] for road, (foot, head) in enumerate(roads) if head in places and foot not in places]
     return None not in highs and sum(lows) > sum(highs)
-
-
-def random_holes(chance, roads):
-    holes = []
-    for _ in range(roads):
-        low = chance.choice((0, 0, 1, 2))
-        holes.append((low, chance.choice((low, low, low + 1, low + 2, None))))
-    return tuple(holes)
-
-
-def small_cases():
-    """Small nets with small holes: all there are of the smallest, then many by chance."""
-    hole = ((0, 0), (0, 1), (1, 1), (1, 2), (0, None), (1, None))
-    cases = [(net, holes) for net in small_nets(3, 2) for holes in product(hole, repeat=len(net[1]))]
-    chance = random.Random(11)
-    for _ in range(700):
-        net = random_net(chance, chance.randint(2, 5), 6)
-        holes = random_holes(chance, len(net[1]))
-        if told_together(holes) < 13 and sum([high is None for _, high in holes]) < 4:
-            cases.append((net, holes))
-    return cases
 
 
 class Holes(unittest.TestCase):
@@ -136,8 +103,8 @@ class Fillings(unittest.TestCase):
 
     def test_beside_a_search(self):
         met = [0, 0]
-        for net, holes in small_cases():
-            found = search(net, holes)
+        for net, holes in small_holes():
+            found = search_within(net, holes)
             bars = [places for places in places_of(net[0]) if is_bar(net, holes, places)]
             self.assertIs(bool(bars), not found, (net, holes))
             met[bool(found)] += 1
@@ -199,7 +166,7 @@ class Fillings(unittest.TestCase):
 class BarError(unittest.TestCase):
 
     def test_none_of_just_the_bars(self):
-        for net, holes in small_cases()[::5]:
+        for net, holes in small_holes()[::5]:
             for places in places_of(net[0]):
                 self.assertIs(bar_error(net, holes, places) is None, is_bar(net, holes, places))
 
@@ -239,15 +206,15 @@ class BarError(unittest.TestCase):
 class Narrowed(unittest.TestCase):
 
     def test_narrowed_again(self):
-        for net, holes in small_cases():
+        for net, holes in small_holes():
             if no_filling(net, holes) is None:
                 told = narrowed(net, holes)
                 self.assertIsNone(holes_error(net, told))
                 self.assertEqual(narrowed(net, told), told)
-                self.assertEqual([tally for tally in search(net, holes) if not is_within(told, tally)], [])
+                self.assertEqual([tally for tally in search_within(net, holes) if not is_within(told, tally)], [])
 
     def test_all_counts_between_come(self):
-        for net, holes in small_cases()[::4]:
+        for net, holes in small_holes()[::4]:
             if no_filling(net, holes) is not None:
                 continue
             for road, (least, greatest) in enumerate(narrowed(net, holes)):
@@ -261,9 +228,9 @@ class Narrowed(unittest.TestCase):
 
     def test_all_alike_is_one_tally(self):
         met = 0
-        for net, holes in small_cases():
+        for net, holes in small_holes():
             if no_filling(net, holes) is None and all([low == high for low, high in narrowed(net, holes)]):
-                self.assertEqual(search(net, holes), [filled(net, holes)])
+                self.assertEqual(search_within(net, holes), [filled(net, holes)])
                 met += 1
         self.assertGreater(met, 20)
 

@@ -5,7 +5,8 @@ import inspect
 import pickle
 import unittest
 
-from suretrips import (bounds, errors, explaining, fillings, nets, nettexts, tallies, tallytexts)
+from suretrips import (answering, anynumber, bounds, costs, errors, exchanging, explaining, fillings, flows, nets,
+                       nettexts, papers, questions, stretches, tallies, tallytexts)
 from tests.common import KINDS
 
 BOUNDS = {
@@ -39,6 +40,29 @@ FUNCTIONS = {
         "explanation_error": ["net", "tally", "value"], "tally_of": ["net", "told"], "explained": ["net", "tally"],
         "all_explained": ["net", "tally"], "settled": ["net", "tally"],
     },
+    exchanging: {"exchanged": ["net", "explanation", "steps"], "exchanges": ["net", "one", "other"]},
+    stretches: {
+        "stretch_error": ["net", "value"], "excess": ["net", "tally", "stretch"],
+        "least_along": ["net", "tally", "stretch"], "most_along": ["net", "tally", "stretch"],
+        "is_sure": ["net", "tally", "stretch"], "sure_stretches": ["net", "tally"],
+        "least_through": ["net", "holes", "stretch"], "most_through": ["net", "holes", "stretch"],
+    },
+    flows: {
+        "greatest_flow": ["net", "room", "feet", "heads", "ends"],
+        "flow_error": ["net", "room", "feet", "heads", "ends", "value"],
+    },
+    costs: {"least_cost": ["net", "holes", "costs"], "least_cost_error": ["net", "holes", "costs", "value"]},
+    questions: {
+        "question_error": ["net", "value"], "takes": ["question", "trip"], "taken": ["question", "told"],
+    },
+    answering: {
+        "least": ["net", "tally", "question"], "most": ["net", "tally", "question"], "door_table": ["net", "tally"],
+    },
+    papers: {
+        "shown": ["net", "tally", "question", "places"], "paper": ["net", "tally", "question"],
+        "paper_error": ["net", "tally", "question", "value"],
+    },
+    anynumber: {"with_number": ["net", "tally", "question", "number"]},
 }
 
 
