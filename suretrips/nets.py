@@ -51,6 +51,16 @@ def places_behind(net, place):
     return reached
 
 
+def places_ahead(net, place):
+    """The places from which one comes to place along roads, place itself too."""
+    _, roads = net
+    reached = [place]
+    for foot, head in sorted(roads, reverse=True):
+        if head in reached and foot not in reached:
+            reached.append(foot)
+    return reached
+
+
 def leads(net, one, other):
     """Whether one can come from the head of the road one to the foot of the road other."""
     _, roads = net

@@ -278,6 +278,207 @@ raises Unfit()
 >>> with_number(doors, far, ("both", 0, 2), 25 * 10 ** 28 + 1)
 (((0, 2), 250000000000000000000000000001), ((0, 3), 49999999999999999999999999999), ((1, 2), 149999999999999999999999999999), ((1, 3), 50000000000000000000000000001))
 '''),
+    ("H2", r'''
+>>> from suretrips.following import apart, avoider, avoider_error, barrier, barrier_error, followers, follows, lone, ways_past
+>>> river, seen, late = (4, ((0, 1), (0, 1), (1, 2), (1, 3), (2, 3))), (5, 3, 6, 2, 6), (5, 0, 3, 2, 3)
+>>> [follows(river, seen, a, b) for a, b in ((2, 4), (4, 2), (0, 2), (2, 0), (1, 1))]
+[True, True, False, False, True]
+>>> [followers(river, seen, a) for a in (0, 2, 4)], [followers(river, late, a) for a in (0, 2, 3, 4)]
+([(), (4,), (2,)], [(), (0, 4), (0,), (0, 2)])
+>>> [apart(river, seen, a, b) for a, b in ((2, 3), (0, 1), (0, 3), (3, 0), (4, 4))], apart(river, late, 1, 2)
+([True, True, False, False, False], True)
+>>> follows(river, late, 1, 2)
+raises Unfit()
+'''),
+    ("H3", r'''
+>>> ways_past(river, seen, 2), ways_past(river, seen, 3), ways_past(river, late, 4), ways_past(river, late, 1)
+((2, ((0, 2, 4), (1, 2, 4))), (2, ((0, 3), (1, 3))), (1, ((0, 2, 4),)), (0, ()))
+>>> lone(river, seen, 5), lone(river, late, 2), lone(river, late, 3), lone(river, seen, 10 ** 30)
+((), ((3, 0),), ((2, 0), (2, 4), (3, 0), (4, 0), (4, 2)), ((2, 4), (4, 2)))
+'''),
+    ("H4", r'''
+>>> avoider(river, seen, 2, 0), avoider(river, seen, 2, 4), avoider(river, seen, 0, 2)
+((1, 2, 4), None, (0, 3))
+>>> [avoider_error(river, late, 0, 2, value) for value in ((0, 3), (0, 2), (1, 3), (0, 2, 4), None)]
+[None, 'trip', 'count', 'avoids', 'trip']
+>>> [barrier_error(river, seen, 2, 4, value) for value in (("behind", (2,)), ("behind", (1, 2)), ("before", (0, 1)), ("behind", (2, 3)), ("self",), ("behind", [2]))]
+[None, ('road', 3), 'end', 'end', 'self', 'form']
+>>> barrier(river, seen, 0, 2), barrier(river, seen, 3, 3), barrier_error(river, late, 2, 0, ("before", (0,)))
+(None, ('self',), None)
+>>> barrier_error(river, seen, 4, 2, barrier(river, seen, 4, 2)) is None
+True
+'''),
+    ("J2", r'''
+>>> from suretrips.lexing import is_name, tokens
+>>> [is_name(value) for value in ("a", "a1", "1a", "abcdefgh", "abcdefghi", "", "A", "out", "outs", 5)]
+[True, True, False, True, False, False, False, False, True, False]
+>>> tokens("road a1:b>c 7..;"), tokens("12a")
+((('word', 'road', 0), ('word', 'a1', 5), ('sign', ':', 7), ('word', 'b', 8), ('sign', '>', 9), ('word', 'c', 10), ('number', '7', 12), ('sign', '..', 13), ('sign', ';', 15)), (('number', '12', 0), ('word', 'a', 2)))
+>>> tokens("followers"), tokens("")
+((('word', 'followers', 0),), ())
+>>> tokens("a follower1")
+raises BadText(2)
+>>> tokens("a 07")
+raises BadText(2)
+>>> tokens("5.")
+raises BadText(1)
+>>> tokens("a, b")
+raises BadText(1)
+'''),
+    ("J3", r'''
+>>> from suretrips.verdicts import answered, holds, saying_error, verdict, witnesses
+>>> river, seen = (4, ((0, 1), (0, 1), (1, 2), (1, 3), (2, 3))), (5, 3, 6, 2, 6)
+>>> both = ("both", 0, 2)
+>>> [saying_error(river, value) for value in (("least", 4, both), ("not", ("follow", 0, 2)), ("least", -1, both), ("follow", 0, 5), ("not",), ["most", 4, both], ("most", True, ("both", 9, 9)))]
+[None, None, ('number',), ('road',), 'form', 'form', ('number',)]
+>>> one, other = (((0, 2, 4), 3), ((0, 3), 2), ((1, 2, 4), 3)), (((0, 2, 4), 5), ((1, 2, 4), 1), ((1, 3), 2))
+>>> [holds(saying, one) for saying in (("least", 4, both), ("most", 3, both), ("follow", 2, 4), ("follow", 3, 0), ("not", ("follow", 0, 2)))], holds(("least", 4, both), other)
+([False, True, True, True, True], True)
+'''),
+    ("J4", r'''
+>>> [verdict(river, seen, saying) for saying in (("least", 3, both), ("least", 4, both), ("most", 5, both), ("most", 2, both), ("not", ("most", 2, both)))]
+['surely', 'perhaps', 'surely', 'never', 'surely']
+>>> [verdict(river, seen, ("follow", a, b)) for a, b in ((2, 4), (4, 2), (0, 2), (2, 0), (3, 2))], verdict(river, (0, 0, 0, 0, 0), ("follow", 0, 2))
+(['surely', 'surely', 'perhaps', 'never', 'never'], 'surely')
+>>> [found is None for found in witnesses(river, seen, ("least", 4, both))], [found is None for found in witnesses(river, seen, ("most", 2, both))]
+([False, False], [True, False])
+'''),
+    ("J7", r'''
+>>> from suretrips.booktexts import book_text, read_book
+>>> told = "places hall cafe yard street; in street; out yard;\nroad door: street > hall 120; road a: hall > cafe ?; road b: hall > yard 30..50; road c: cafe > yard ?; road d: street > cafe 40; ask most touch d a;"
+>>> book = read_book(told)
+>>> book[:3], book[3]
+((('street', 'hall', 'cafe', 'yard'), ('door', 'a', 'b', 'c', 'd'), (4, ((0, 1), (1, 2), (1, 3), (2, 3), (0, 2)))), ((120, 120), (0, None), (30, 50), (0, None), (40, 40)))
+>>> book[4:], read_book(book_text(book)) == book
+(((), (('most', ('touch', (1, 4))),)), True)
+>>> book_text(book).split("\n")[:6]
+['places street hall cafe yard;', 'in street;', 'out yard;', 'road door: street > hall 120;', 'road a: hall > cafe ?;', 'road b: hall > yard 30..50;']
+>>> read_book("places a b c; in a; out c; road r: a > b 5; road s: b > b ?;")
+raises Ring(('b',))
+>>> read_book("places a b c d; in a; out d; road r: b > c 5; road s: c > b 5;")
+raises Ring(('c', 'b'))
+>>> read_book("places a b; in a; out b; road r: b > a 5;")
+raises BadText(33)
+>>> read_book("places a b; in a; out b; road r: a > b 5..4;")
+raises Unfit()
+>>> read_book("places a b a;")
+raises Taken('a')
+>>> read_book("places a b; in a; out b; road r: a > c 5;")
+raises NoName('c')
+>>> read_book("places a b; in a; out b;")
+raises BadText(24)
+'''),
+    ("J8", r'''
+>>> asks = "known 3: door a c; ask least both door c; ask most both d c; ask least touch b d; ask followers a; say least 70 both door c; say not most 74 both door c; say follow c a; say follow d c;"
+>>> answered(read_book(told.replace("30..50", "45").replace("ask most touch d a;", asks)))
+('75', '40', '85', 'door c', 'surely', 'surely', 'never', 'surely')
+>>> answered(book)
+raises Unfit()
+>>> answered(read_book(told.replace("30..50", "45").replace("ask most touch d a;", "known 46: door b;")))
+raises Unfit()
+'''),
+    ("K2", r'''
+>>> from suretrips.plans import plan_error, plan_text, read_plan
+>>> shop = (2, 3, ((-1, 0, 0), (0, 1, 1), (1, -1, 0), (0, -1, 0)))
+>>> [plan_error(value) for value in (shop, (1, 1, ((-1, 0, 0),)), shop[:2], (2, 3, ()), (0, 3, shop[2]), (2, 7, shop[2]), (2, True, shop[2]))]
+[None, None, 'form', 'form', 'rooms', 'beats', 'beats']
+>>> [plan_error((2, 3, (door,))) for door in ((-1, 0, 1), (-1, -1, 0), (0, 0, 1), (0, 1, 0), (0, 1, 6), (0, 2, 1), (0, 1, 7), [0, 1, 1])]
+[('door', 0), ('door', 0), ('door', 0), ('door', 0), None, ('door', 0), ('door', 0), ('door', 0)]
+>>> plan_error((6, 4, ((-1, 0, 0),))), plan_error((2, 6, ((-1, 0, 0),) * 9))
+('places', 'roads')
+'''),
+    ("K3", r'''
+>>> plan_text(shop), read_plan(plan_text(shop)) == shop
+('2 3: in>0 0>1*1 1>out 0>out', True)
+>>> read_plan("2 3: in>out")
+raises BadText(8)
+>>> read_plan("2 3: 0>1")
+raises BadText(8)
+>>> read_plan("2 3: 0>1*0")
+raises BadNet(('door', 0))
+'''),
+    ("K4", r'''
+>>> from suretrips.unrolling import counts_error, counts_of, place_of, road_of, tally_of_plan, told_back, unrolled, wait_of
+>>> unrolled((1, 2, ((-1, 0, 0), (0, -1, 0))))
+(4, ((0, 1), (0, 2), (1, 3), (2, 3), (1, 2), (2, 3)))
+>>> unrolled(shop)[0], unrolled(shop)[1][:11]
+(8, ((0, 1), (0, 3), (0, 5), (1, 4), (3, 6), (2, 7), (4, 7), (6, 7), (1, 7), (3, 7), (5, 7)))
+>>> unrolled(shop)[1][11:], place_of(shop, 1, 2), road_of(shop, 1, 1), road_of(shop, 3, 0), wait_of(shop, 0, 0), wait_of(shop, 1, 2)
+(((1, 3), (3, 5), (5, 7), (2, 4), (4, 6), (6, 7)), 6, 4, 8, 11, 16)
+>>> road_of(shop, 1, 2)
+raises Unfit()
+'''),
+    ("K5", r'''
+>>> day = ((5, 3, 0), (2, 1), (0, 2, 1), (1, 0, 2))
+>>> tally_of_plan(shop, day), counts_of(shop, tally_of_plan(shop, day)) == day
+((5, 3, 0, 2, 1, 0, 2, 1, 1, 0, 2, 2, 4, 2, 0, 0, 0), True)
+>>> [counts_error(shop, value) for value in (day, day[:3], ((5, 3),) + day[1:], ((5, 3, True),) + day[1:], day[:2] + ((1, 2, 1),) + day[3:], ((1, 0, 0),) + day[1:])]
+[None, 'form', ('door', 0), ('door', 0), ('lack', 1, 0), ('lack', 0, 0)]
+>>> tally_of_plan(shop, day[:2] + ((0, 3, 1),) + day[3:])
+raises BadTally(('lack', 1, 1))
+'''),
+    ("K6", r'''
+>>> told_back(shop, (0, 3, 6)), told_back(shop, (0, 3, 15, 16)), told_back(shop, (0, 11, 9))
+((('door', 0, 0), ('door', 1, 0), ('door', 2, 1)), (('door', 0, 0), ('door', 1, 0), ('wait', 1, 1), ('stay', 1, 2)), (('door', 0, 0), ('wait', 0, 0), ('door', 3, 1)))
+'''),
+    ("L3", r'''
+>>> from suretrips.desks import Desk, desk_behind
+>>> river = (4, ((0, 1), (0, 1), (1, 2), (1, 3), (2, 3)))
+>>> d = Desk(river)
+>>> [d.see((0, 2, 4), 5), d.see((1, 3), 2), d.see((1, 2, 4), 1)], d.tally, d.known
+([1, 2, 3], (5, 3, 6, 2, 6), ())
+>>> d.least(("along", (0, 2, 4))), d.most(("along", (0, 2, 4))), d.settled(), d.follows(2, 4)
+(3, 5, False, True)
+>>> d.know((1, 3), 2), d.rest(), d.least(("along", (0, 2, 4))), d.settled()
+(4, (5, 1, 6, 0, 6), 5, True)
+>>> d.follows(0, 2), d.follows(3, 1)
+(True, True)
+>>> d.take_back((0, 3), 1)
+raises Unfit()
+>>> d.know((0, 3), 1)
+raises Unfit()
+>>> d.see((0, 4), 1)
+raises Unfit()
+>>> d.doubt((1, 3), 1), d.known, d.least(("along", (0, 2, 4))), d.most(("both", 1, 3)), d.least(("both", 1, 3))
+(5, (((1, 3), 1),), 4, 2, 1)
+>>> d.undo(), d.known, d.redo(), d.known, len(d.log), d.log[3]
+(4, (((1, 3), 2),), 5, (((1, 3), 1),), 5, ('know', (1, 3), 2))
+>>> e = d.copy()
+>>> e == d, e.put((5, 3, 5, 3, 5)), e.least(("along", (0, 2, 4))), e == d, d.tally[2]
+(True, 6, 3, False, 6)
+>>> e.put((5, 3, 8, 0, 8))
+raises Unfit()
+>>> e.put((5, 3, 8, 0, 7))
+raises BadTally(('place', 2))
+>>> Desk((2, ())).version
+raises BadNet('form')
+'''),
+    ("L4", r'''
+>>> desk_behind(river, d.log) == d, desk_behind(river, d.log).known, desk_behind(river, ()).tally
+(True, (((1, 3), 1),), (0, 0, 0, 0, 0))
+>>> desk_behind(river, (("see", (0, 3), 1), ("know", (1, 3), 1)))
+raises BadLog(1)
+>>> desk_behind(river, (("undo",),))
+raises BadLog(0)
+'''),
+    ("M4", r'''
+>>> from suretrips.shells import Shell
+>>> s = Shell()
+>>> s.say("tally"), s.say("book places hall yard street; in street; out yard; road a: street > hall 3; road b: street > hall 2; road c: hall > yard 4; road d: hall > yard ?; ask least both a c;")
+('no book', 'version 1')
+>>> s.say("tally"), s.say("known"), s.say("sure"), s.say("followers a"), s.say("answers")
+('a=3 b=2 c=4 d=1', 'none', 'a>c b>c d', 'none', '2')
+>>> s.say("least both a c"), s.say("most both c a"), s.say("least touch d a"), s.say("most along a c"), s.say("with 3 both a c")
+('2', '3', '3', '3', '3 a c, 1 b c, 1 b d')
+>>> s.say("know 2 a c"), s.say("know 1  a d"), s.say("known"), s.say("most both a c"), s.say("undo"), s.say("most both a c")
+('version 2', 'version 3', '2 a c, 1 a d', '2', 'version 2', '3')
+>>> s.say("verdict not least 3 both a c"), s.say("verdict most 3 touch a"), s.say("verdict follow a c")
+('perhaps', 'surely', 'perhaps')
+>>> [s.say(line) for line in ("see 1 a b", "see 1 a z", "see 01 a c", "see 0 a c", "doubt 3 a c", "least near a", "least along a b", "see 1", "least", "put 3", 5)]
+['error Unfit', 'error NoName', 'error BadText', 'error Unfit', 'error Unfit', 'error BadText', 'error Unfit', 'error BadText', 'what', 'what', 'what']
+>>> s.say("book places a;"), s.say("redo"), s.say("redo"), s.say("text").split("\n")[0]
+('error BadText', 'version 3', 'error NothingToUndo', 'places street hall yard;')
+'''),
 )
 
 
@@ -314,7 +515,7 @@ class Examples(unittest.TestCase):
                         self.assertEqual(told_by(code, names), wanted)
 
     def test_the_examples_are_all_run(self):
-        self.assertEqual(sum([len(examples_of(text)) for _, text in EXAMPLES]), 128)
+        self.assertEqual(sum([len(examples_of(text)) for _, text in EXAMPLES]), 223)
 
     def test_examples_of_the_readme(self):
         readme = Path(__file__).resolve().parent.parent / "README.md"

@@ -5,8 +5,9 @@ import inspect
 import pickle
 import unittest
 
-from suretrips import (answering, anynumber, bounds, costs, errors, exchanging, explaining, fillings, flows, nets,
-                       nettexts, papers, questions, stretches, tallies, tallytexts)
+from suretrips import (answering, anynumber, booktexts, bounds, costs, desks, errors, exchanging, explaining, fillings,
+                       flows, following, lexing, nets, nettexts, papers, plans, questions, shells, stretches, tallies,
+                       tallytexts, unrolling, verdicts)
 from tests.common import KINDS
 
 BOUNDS = {
@@ -63,6 +64,35 @@ FUNCTIONS = {
         "paper_error": ["net", "tally", "question", "value"],
     },
     anynumber: {"with_number": ["net", "tally", "question", "number"]},
+    following: {
+        "follows": ["net", "tally", "a", "b"], "followers": ["net", "tally", "a"], "apart": ["net", "tally", "a", "b"],
+        "ways_past": ["net", "tally", "a"], "lone": ["net", "tally", "few"], "avoider": ["net", "tally", "a", "b"],
+        "avoider_error": ["net", "tally", "a", "b", "value"], "barrier": ["net", "tally", "a", "b"],
+        "barrier_error": ["net", "tally", "a", "b", "value"],
+    },
+    lexing: {"is_name": ["value"], "tokens": ["value"]},
+    booktexts: {"book_text": ["book"], "read_book": ["value"]},
+    verdicts: {
+        "saying_error": ["net", "value"], "holds": ["saying", "explanation"], "verdict": ["net", "tally", "saying"],
+        "witnesses": ["net", "tally", "saying"], "answered": ["book"],
+    },
+    plans: {"plan_error": ["value"], "plan_text": ["plan"], "read_plan": ["value"]},
+    unrolling: {
+        "unrolled": ["plan"], "place_of": ["plan", "room", "beat"], "road_of": ["plan", "door", "beat"],
+        "wait_of": ["plan", "room", "beat"], "counts_error": ["plan", "value"], "tally_of_plan": ["plan", "counts"],
+        "counts_of": ["plan", "tally"], "told_back": ["plan", "trip"],
+    },
+    desks: {"Desk": ["net"], "desk_behind": ["net", "value"]},
+    shells: {"Shell": []},
+}
+
+METHODS = {
+    desks.Desk: {
+        "rest": [], "see": ["trip", "times"], "take_back": ["trip", "times"], "know": ["trip", "times"],
+        "doubt": ["trip", "times"], "put": ["tally"], "undo": [], "redo": [], "least": ["question"], "most": ["question"],
+        "settled": [], "follows": ["a", "b"], "copy": [],
+    },
+    shells.Shell: {"say": ["line"]},
 }
 
 
@@ -80,6 +110,17 @@ class Interface(unittest.TestCase):
                     function = getattr(module, name)
                     self.assertEqual(function.__module__, module.__name__)
                     self.assertEqual(list(inspect.signature(function).parameters), arguments)
+
+    def test_methods_stand_in_their_classes_with_their_arguments(self):
+        for made, methods in METHODS.items():
+            for name, arguments in methods.items():
+                with self.subTest(name=name):
+                    self.assertEqual(list(inspect.signature(vars(made)[name]).parameters), ["self"] + arguments)
+        self.assertEqual([name for name in vars(shells.Shell) if not name.startswith("__")], ["say"])
+
+    def test_keywords_stand_in_lexing(self):
+        self.assertIs(type(lexing.KEYWORDS), tuple)
+        self.assertEqual({type(word) for word in lexing.KEYWORDS}, {str})
 
 
 class Errors(unittest.TestCase):

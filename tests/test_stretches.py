@@ -3,7 +3,6 @@
 import random
 import unittest
 
-from suretrips.explaining import tally_of
 from suretrips.nets import trip_at, trip_count
 from suretrips.stretches import (excess, is_sure, least_along, least_through, most_along, most_through, stretch_error,
                                  sure_stretches)
