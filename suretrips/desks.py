@@ -2,12 +2,12 @@
 
 from suretrips.bounds import MAX_COUNT, MAX_EDITS
 from suretrips.errors import BadLog, BadNet, BadTally, NothingToUndo, TooManyEdits, TripError, Unfit
-from suretrips.explaining import settled, tally_of
+from suretrips.explaining import tally_of
 from suretrips.helpers import is_row, lies_in
 from suretrips.nets import net_error, trip_error
 from suretrips.questions import question_error
 from suretrips.tallies import less, put_together, tally_error
-from suretrips.verdicts import follows_known, least_known, most_known, rest_of
+from suretrips.verdicts import follows_known, least_known, most_known, rest_of, settled_known
 
 
 def counts_of_trip(net, trip, times):
@@ -143,7 +143,7 @@ class Desk:
 
     def settled(self):
         """Whether there is just one explanation that has the known trips."""
-        return settled(self.net, self.rest())
+        return settled_known(self.net, self.tally, self.known)
 
     def follows(self, a, b):
         """Whether each trip past a passes b, too, in all explanations that have the known trips."""

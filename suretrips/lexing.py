@@ -6,7 +6,7 @@ from suretrips.helpers import FIGURES
 KEYWORDS = ("along", "ask", "both", "follow", "followers", "in", "known", "least", "most", "not", "out", "places",
             "road", "say", "sure", "touch")
 LETTERS = "abcdefghijklmnopqrstuvwxyz"
-WORD_SIGNS = LETTERS + FIGURES
+WORD_SIGNS = "abcdefghijklmnopqrstuvwxyz0123456789"
 SINGLE_SIGNS = (";", ":", ">", "?")
 BLANKS = (" ", "\n")
 NAME_SIGNS = 8

@@ -7,7 +7,7 @@ from suretrips.answering import least, most
 from suretrips.anynumber import with_number
 from suretrips.bounds import MAX_COUNT, MAX_NOTS
 from suretrips.errors import Unfit
-from suretrips.explaining import tally_of
+from suretrips.explaining import settled, tally_of
 from suretrips.fillings import narrowed
 from suretrips.following import follows
 from suretrips.helpers import is_row, lies_in
@@ -75,6 +75,11 @@ def least_known(net, tally, known, question):
 def most_known(net, tally, known, question):
     """The greatest number of trips that question takes, over the explanations that have the known trips."""
     return taken(question, known) + most(net, rest_of(net, tally, known), question)
+
+
+def settled_known(net, tally, known):
+    """Whether there is just one explanation that has the known trips."""
+    return settled(net, rest_of(net, tally, known))
 
 
 def follows_known(net, tally, known, a, b):

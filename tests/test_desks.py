@@ -469,10 +469,19 @@ class DeskBehind(unittest.TestCase):
         for value in KINDS + (("undo",), ("redo",), ("see",), ("see", (0, 3)), ("see", (0, 3), 1, 1), ["see", (0, 3), 1], ("put",), ("put", (0,) * 5, 1),
                               ("away", (0, 3), 1), ("copy",), ("rest",), ("least", ("both", 0, 3)), ("See", (0, 3), 1), ("see", [0, 3], 1),
                               ("see", (0, 3), True), ("see", (0, 4), 1), ("put", [0] * 5), ("put", (1, 0, 0, 0, 0)), ("know", (0, 3), 2), ("doubt", (0, 3), 1),
-                              ("take_back", (1, 3), 1), ("know", (0, 3)), (("see",), (0, 3), 1), ("follows", 0, 3)):
+                              ("take_back", (1, 3), 1), ("see", (0,) * 5), ("undo", (2, 0, 0, 2, 0)), ("know", (0, 3)), (("see",), (0, 3), 1), ("follows", 0, 3)):
             for ahead in ((), (("see", (0, 3), 1),), (("see", (0, 3), 1), ("put", (1, 0, 0, 1, 0)))):
                 for behind in ((), (None,)):
                     self.assertEqual(answer(desk_behind, RIVER, ahead + (value,) + behind), raised("BadLog", place=len(ahead)))
+
+    def test_no_words_of_edits_where_all_else_would_do(self):
+        ahead = (("see", (0, 3), 3), ("know", (0, 3), 2))
+        for word in ("away", "undo", "Put", "settled", "", None, 0, ("put",), ["put"], Desk(RIVER)):
+            for value in ((word, (0, 3), 1), (word, (4, 0, 0, 4, 0))):
+                self.assertEqual(answer(desk_behind, RIVER, ahead + (value,)), raised("BadLog", place=2))
+        for word in EDITS[:4]:
+            self.assertEqual(desk_behind(RIVER, ahead + ((word, (0, 3), 1),)).version, 3)
+        self.assertEqual(desk_behind(RIVER, ahead + (("put", (4, 0, 0, 4, 0)),)).version, 3)
 
     def test_too_many_edits(self):
         edits = (("see", (0, 3), 1),) * 40

@@ -299,7 +299,7 @@ class Errors(unittest.TestCase):
                            f"verdict not most {10 ** 31 - 1}", "verdict " + "not " * 9 + "follow a c", "verdict " + "not " * 9, f"see {TOP} a c"), "TooMany")
         self.check(shell, ("see 0 a c", "see 1 a", "see 1 c a", "see 1 a b", "away 0 a c", "away 9 a c", "away 2 a c", "know 3 a c", "know 1 b", "doubt 3 a c",
                            "doubt 1 a d", "least along a b", "most along c a", "least touch a a", "most touch c a c", "with 3 along a b", "with 4 both a c",
-                           "with 1 both a c", "with 0 touch c c", f"with {TOP} both a c", "verdict least 3 along a b", "verdict not most 3 touch a a"), "Unfit")
+                           "with 1 both a c", "with 0 touch c c", "with 4 touch c c", "with 0 along a b", "with 4 along c a", f"with {TOP} both a c", "verdict least 3 along a b", "verdict not most 3 touch a a"), "Unfit")
         self.assertEqual(shell.say(f"verdict {'not ' * 8}least {TOP} both a c"), "never")
 
     def test_undo_and_redo(self):
