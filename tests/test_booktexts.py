@@ -360,9 +360,8 @@ class Calls(unittest.TestCase):
             check_calls(self, read_book, ("value",), (value,))
 
     def test_the_judge_of_the_tests_tells_the_books_too(self):
-        for book in great_books()[:4]:
-            if len(book[2][1]) < 20:
-                self.assertEqual(book_of(book_text(book)), book)
+        for book in some_books():
+            self.assertEqual(book_of(book_text(book)), book)
 
 
 if __name__ == "__main__":

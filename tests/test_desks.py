@@ -239,6 +239,18 @@ class Edits(unittest.TestCase):
         self.assertEqual((desk.doubt((1, 3), 1), desk.doubt((1, 3), 1), desk.known), (6, 7, ()))
         self.assertEqual(answer(desk.doubt, (1, 3), 1), raised("Unfit"))
 
+    def test_see_and_take_back_and_know_and_doubt_leave_all_as_it_was(self):
+        chance = random.Random(121)
+        for net in desk_nets():
+            desk = random_desk(chance, net, 12, 5)
+            for _ in range(5):
+                trip, times = trip_at(net, chance.randrange(trip_count(net))), chance.randint(1, TOP // 2)
+                for edits in ((desk.see, desk.take_back), (desk.know, desk.doubt)):
+                    before = desk.tally, desk.known, desk.rest()
+                    if answer(edits[0], trip, times)[0] == "returns":
+                        edits[1](trip, times)
+                    self.assertEqual((desk.tally, desk.known, desk.rest()), before)
+
     def test_forty_edits_and_one_more(self):
         desk, plain = Desk(RIVER), PlainDesk(RIVER)
         for edit in (("see", (0, 3), 1),) * 20 + (("know", (0, 3), 1),) * 10 + (("put", (20, 0, 0, 20, 0)),) * 10:

@@ -8,6 +8,7 @@ from suretrips.explaining import explanation_error, tally_of
 from suretrips.following import (apart, avoider, avoider_error, barrier, barrier_error, followers, follows, lone,
                                  ways_past)
 from suretrips.nets import net_error, trip_at, trip_count
+from suretrips.tallies import put_together
 from tests.common import (KINDS, NO_INTEGERS, TOP, all_trips, answer, chain, check_calls, great_tallies, raised,
                           random_net, random_tally, small_tallies, some_explained, subsets, wide)
 
@@ -281,6 +282,27 @@ class Great(unittest.TestCase):
                 for a in told:
                     for b in told[a]:
                         self.assertLessEqual(set(told[b]), set(told[a]) | {a})
+
+    def test_with_more_roads_counted_there_are_no_more_followers(self):
+        chance = random.Random(89)
+        for _ in range(80):
+            net = random_net(chance, 7, 14)
+            if trip_count(net):
+                tally, other = random_tally(chance, net, 2, 9), random_tally(chance, net, 3, TOP // 10)
+                both = put_together(tally, other)
+                for a in range(len(tally)):
+                    if tally[a]:
+                        self.assertLessEqual(set(followers(net, both, a)), set(followers(net, tally, a)))
+
+    def test_a_road_on_alone_and_a_road_up_alone(self):
+        for net, tally in small_tallies()[::5]:
+            _, roads = net
+            for a in [road for road in range(len(tally)) if tally[road]]:
+                on = [road for road in range(len(tally)) if tally[road] and roads[road][0] == roads[a][1]]
+                up = [road for road in range(len(tally)) if tally[road] and roads[road][1] == roads[a][0]]
+                for alone in (on, up):
+                    if len(alone) == 1:
+                        self.assertIs(follows(net, tally, a, alone[0]), True)
 
     def test_an_avoider_stands_in_an_explanation(self):
         net, tally = chain(3, 2), (TOP,) * 6

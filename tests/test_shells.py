@@ -15,8 +15,8 @@ from suretrips.nets import trip_at, trip_count
 from suretrips.shells import Shell
 from suretrips.stretches import sure_stretches
 from suretrips.verdicts import answered, verdict
-from tests.common import (KINDS, TOP, Fault, TextReader, answer, chain, check_calls, is_question, random_known_book,
-                          random_question, random_saying, some_explained)
+from tests.common import (KINDS, TOP, Fault, TextReader, answer, asked_question, chain, check_calls, is_question,
+                          random_known_book, random_question, random_saying, some_explained)
 
 ALONE = ("undo", "redo", "tally", "known", "explain", "sure", "answers", "text")
 AHEAD = ("book", "see", "away", "know", "doubt", "least", "most", "with", "followers", "verdict")
@@ -93,10 +93,9 @@ class PlainShell:
         sort, _, place = reader.row[reader.at]
         if sort != "end" or place < len(text):
             reader.fail("BadText", place=place)
-        inner = found[-1]
-        while parts[-1] == "saying" and inner[0] == "not":
-            inner = inner[1]
-        question = inner if parts[-1] == "question" else inner[-1] if parts[-1] == "saying" and inner[0] != "follow" else None
+        question = found[-1] if parts[-1] == "question" else None
+        if parts[-1] == "saying":
+            question = asked_question(("say", found[-1]))
         if question is not None and not is_question(self.desk.net, question):
             reader.fail("Unfit")
         return found
